@@ -935,7 +935,7 @@ func TestBytesAccountedFor(t *testing.T) {
 	}
 }
 
-// read takes a line of digits as a body's size, and tells all items.
+// read asks for a body behind each line that says put and a size, and tells all items.
 func read(t *testing.T, i *Intake) []api.Item {
 	t.Helper()
 	var items []api.Item
@@ -949,7 +949,7 @@ func read(t *testing.T, i *Intake) []api.Item {
 	return items
 }
 
-// P6.7: one stream, cut at each two places, with and without a Next at the cuts.
+// P6.7: one stream, cut at each place and at one more behind it (all near ones, fewer of the far ones), with and without a Next at the cuts.
 func TestCuts(t *testing.T) {
 	stream := of("put 3.abc.x\r.put 3.abcd.put 9.123456789." + as(222) + "." + as(223) + ".y\r\n\n." + "put 9.12345678\r\r\n\n" + as(225) + "\r\r\nz")
 	whole := fresh(t, 4, "")
